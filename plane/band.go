@@ -51,16 +51,17 @@ func join(spans []span, next span) []span {
 	return append(spans, next)
 }
 
-// stack puts a band above others, or makes the last one higher.
-func stack(bands []band, next band) []band {
-	if last := len(bands) - 1; last >= 0 && continues(bands[last], next) {
-		bands[last].high = next.high
+// settled returns bands of which the highest one is not apart from the one below it, if it continues that one.
+func settled(bands []band) []band {
+	last := len(bands) - 1
+	if last < 1 || !continues(bands[last-1], bands[last]) {
 		return bands
 	}
-	return append(bands, next)
+	bands[last-1].high = bands[last].high
+	return bands[:last]
 }
 
-// rectsOf returns the rectangles of bands; rows without squares are a band without any.
+// rectsOf returns the rectangles of bands.
 func rectsOf(bands []band) []api.Rect {
 	var rects []api.Rect
 	for _, b := range bands {

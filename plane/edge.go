@@ -1,6 +1,8 @@
 package plane
 
 import (
+	"cmp"
+	"iter"
 	"slices"
 
 	"landaid/api"
@@ -12,7 +14,7 @@ type edge struct {
 	list, more   int
 }
 
-// edgesOf returns both sides of each rectangle of lists.
+// edgesOf returns both sides of each rectangle of lists, ascending by their lowest rows, then by x.
 func edgesOf(lists [][]api.Rect) []edge {
 	var edges []edge
 	for list, rects := range lists {
@@ -20,6 +22,7 @@ func edgesOf(lists [][]api.Rect) []edge {
 			edges = append(edges, edge{r.Left, r.Low, r.High, list, 1}, edge{r.Right, r.Low, r.High, list, -1})
 		}
 	}
+	slices.SortFunc(edges, func(e, f edge) int { return cmp.Or(cmp.Compare(e.low, f.low), cmp.Compare(e.x, f.x)) })
 	return edges
 }
 
@@ -33,24 +36,50 @@ func cutsOf(edges []edge) []int {
 	return slices.Compact(cuts)
 }
 
-// spansOf returns the spans of the squares of a row that are kept, by edges that ascend by x.
-// It counts in covers how many rectangles of each list cover a square; these are 0 to the left of all edges, and to the right of them again.
-func spansOf(edges []edge, y int, covers []int, keep func(set int) bool) []span {
-	var spans []span
-	x, set := 0, 0
-	for _, e := range edges {
-		if y < e.low || y >= e.high {
-			continue
-		}
-		if x < e.x && set != 0 && keep(set) {
-			spans = join(spans, span{x, e.x})
-		}
-		covers[e.list] += e.more
-		set &^= 1 << e.list
-		if covers[e.list] > 0 {
-			set |= 1 << e.list
-		}
-		x = e.x
+// rise makes of the edges of a row, which ascend by x, those of the row y above it, by the edges that begin in the row y or above it. It returns these edges, and those that begin above the row y.
+func rise(row, rest []edge, y int) ([]edge, []edge) {
+	first := 0
+	for first < len(rest) && rest[first].low == y {
+		first++
 	}
-	return spans
+	row = insert(row, rest[:first])
+	return slices.DeleteFunc(row, func(e edge) bool { return e.high <= y }), rest[first:]
+}
+
+// insert puts edges among those of a row; both ascend by x. It begins at the end, so that what is to the left of them stays where it is.
+func insert(row, more []edge) []edge {
+	i, j := len(row)-1, len(more)-1
+	row = append(row, more...)
+	for to := len(row) - 1; j >= 0; to-- {
+		if i >= 0 && row[i].x > more[j].x {
+			row[to] = row[i]
+			i--
+		} else {
+			row[to] = more[j]
+			j--
+		}
+	}
+	return row
+}
+
+// spansOf returns the spans of a row, by its edges, which ascend by x, each with the set of the lists that have its squares; those in no list are left out.
+func spansOf(row []edge, lists int) iter.Seq2[int, span] {
+	return func(yield func(set int, s span) bool) {
+		covers := make([]int, lists) // how many rectangles of each list cover the squares behind the last edge
+		x, set := 0, 0
+		for _, e := range row {
+			covers[e.list] += e.more
+			next := set &^ (1 << e.list)
+			if covers[e.list] > 0 {
+				next |= 1 << e.list
+			}
+			if next == set {
+				continue
+			}
+			if x < e.x && set != 0 && !yield(set, span{x, e.x}) {
+				return
+			}
+			x, set = e.x, next
+		}
+	}
 }
